@@ -1,4 +1,4 @@
-"""The calls that ask: each answers numbers, and changes nothing."""
+"""The calls that ask for sums, ways and histories: each answers numbers, and changes nothing."""
 
 from firstpress.refusals import NO_HISTORY
 from firstpress.ways import Survey, told_ring, told_way
@@ -14,7 +14,11 @@ def ask(record, number, given):
         return ask_most(survey, given[0], given[1])
     if number == 10:
         return ask_sure(survey, given[0], given[1])
-    return ask_way(survey, given[0], given[1])
+    if number == 11:
+        return ask_way(survey, given[0], given[1])
+    if number == 14:
+        return ask_history(survey)
+    return ask_late(survey, given[0])
 
 
 def counted(numbers):
@@ -35,16 +39,32 @@ def ask_most(survey, x, y):
 
 
 def ask_sure(survey, x, y):
-    # How far x can be behind y tells it: never at all, or at most at one moment with it.
-    behind = survey.sums[y][x]
-    if behind is None or behind > 0:
-        return [0]
-    if behind == 0:
+    if survey.is_before(x, y):
+        return [2]
+    if survey.is_not_behind(x, y):
         return [1]
-    return [2]
+    return [0]
 
 
 def ask_way(survey, x, y):
     if survey.sums[x][y] is None:
         return [0]
     return [1] + counted(told_way(survey, x, y))
+
+
+def ask_history(survey):
+    times = [least_to(survey, y) for y in range(survey.size)]
+    earliest = min(times, default=0)
+    return counted([moment - earliest for moment in times])
+
+
+# The least sum of a way to y from any event; the way of no bounds is one, so it is 0 or below.
+def least_to(survey, y):
+    return min([row[y] for row in survey.sums if row[y] is not None])
+
+
+def ask_late(survey, x):
+    times = survey.sums[x]
+    if None in times:
+        return [0]
+    return [1] + counted(times)

@@ -4,12 +4,14 @@ from firstpress.asking import ask
 from firstpress.layout import KINDS, in_ranges, read_call
 from firstpress.record import Record
 from firstpress.refusals import NOT_THERE, OUT_OF_RANGE
+from firstpress.ruling import rule
+from firstpress.showing import show
 from firstpress.telling import tell
 
-
-# A call that has its layout, but that nothing answers so far.
-class NotAnsweredYet(NotImplementedError):
-    pass
+# Which calls each of these answers; ask answers all others.
+TELLS = (0, 1, 2, 3, 4, 5, 6, 7, 20, 21)
+SHOWS = (13, 16, 19, 23)
+RULES = (12, 17, 18, 22)
 
 
 def answers(calls):
@@ -31,8 +33,10 @@ def answer_call(record, call):
         return [OUT_OF_RANGE]
     if not record.has_all(kinds, call.given):
         return [NOT_THERE]
-    if call.number < 8:
+    if call.number in TELLS:
         return tell(record, call.number, call.given)
-    if call.number < 12:
-        return ask(record, call.number, call.given)
-    raise NotAnsweredYet("first to told, calls 12 to 23, are not answered yet")
+    if call.number in SHOWS:
+        return show(record, call.number, call.row)
+    if call.number in RULES:
+        return rule(record, call.number, call.given, call.row)
+    return ask(record, call.number, call.given)

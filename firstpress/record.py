@@ -2,8 +2,10 @@
 
 from firstpress.layout import RANGES
 
+# Told with each event by told.
 PLAIN = 0
 PRESS = 1
+REPORT = 2
 
 
 class Box:
@@ -78,9 +80,9 @@ class Record:
     def team_of(self, x):
         return self.boxes[self.events[x].box].team
 
-    # The wire from the team of event x to that of event y, or None.
+    # The wire from the team of event x to that of event y; it must have been told.
     def wire_between(self, x, y):
-        return self.wires.get((self.team_of(x), self.team_of(y)))
+        return self.wires[(self.team_of(x), self.team_of(y))]
 
     # 0, the least stamp that there can be, if the box has no event yet.
     def last_stamp(self, i):
@@ -89,3 +91,28 @@ class Record:
             if event.box == i:
                 last = event.stamp
         return last
+
+    def presses(self):
+        return [x for x, event in enumerate(self.events) if event.kind == PRESS]
+
+    # A team bears the number of its first box, so these rise.
+    def teams(self):
+        return [i for i, box in enumerate(self.boxes) if box.team == i]
+
+    # The event that is the team's last report, or None.
+    def last_report(self, team):
+        last = None
+        for x, event in enumerate(self.events):
+            if event.kind == REPORT and self.team_of(x) == team:
+                last = x
+        return last
+
+    # Another record, that differs in events and evidence alone: what if these were told?
+    def but_with(self, events, evidence):
+        other = Record()
+        other.boxes = self.boxes
+        other.messages = self.messages
+        other.wires = self.wires
+        other.events = events
+        other.evidence = evidence
+        return other

@@ -1,6 +1,6 @@
 """The calls that tell something: each answers numbers, and changes the record unless it is refused."""
 
-from firstpress.record import PLAIN, PRESS, Box, Event, Hearing, Limit, Wire
+from firstpress.record import PLAIN, PRESS, REPORT, Box, Event, Hearing, Limit, Wire
 from firstpress.refusals import ALIKE, FALLS_BACK, FULL, NO_DELAY, OUT_OF_RANGE, WOKEN
 
 
@@ -19,7 +19,11 @@ def tell(record, number, given):
         return tell_heard(record, given[0], given[1])
     if number == 6:
         return tell_limit(record, given[0], given[1], given[2], given[3])
-    return tell_drop(record, given[0])
+    if number == 7:
+        return tell_drop(record, given[0])
+    if number == 20:
+        return tell_event(record, given[0], given[1], REPORT)
+    return tell_wakes(record, given[0])
 
 
 def put_behind(things, thing):
@@ -74,12 +78,20 @@ def tell_sent(record, x):
     return put_behind(record.messages, x)
 
 
+# Why a team can't have heard the message: the number of the refusal, or None.
+def hearing_refusal(record, m, team):
+    sender = record.team_of(record.messages[m])
+    if sender == team:
+        return ALIKE
+    if (sender, team) not in record.wires:
+        return NO_DELAY
+    return None
+
+
 def tell_heard(record, m, y):
-    x = record.messages[m]
-    if record.team_of(x) == record.team_of(y):
-        return [ALIKE]
-    if record.wire_between(x, y) is None:
-        return [NO_DELAY]
+    refusal = hearing_refusal(record, m, record.team_of(y))
+    if refusal is not None:
+        return [refusal]
     if record.is_full("evidence"):
         return [FULL]
     return put_behind(record.evidence, Hearing(m, y))
@@ -98,3 +110,13 @@ def tell_limit(record, x, y, least, most):
 def tell_drop(record, k):
     record.evidence.pop(k)
     return [len(record.evidence)]
+
+
+def tell_wakes(record, i):
+    old = record.boxes[i]
+    if old.woken:
+        return [WOKEN]
+    if record.is_full("box"):
+        return [FULL]
+    old.woken = True
+    return put_behind(record.boxes, Box(old.slow, old.fast, old.grain, old.team))

@@ -17,6 +17,16 @@ class Survey:
                 return False
         return True
 
+    # Surely so, if there is a history: how far x can be behind y tells it.
+    def is_before(self, x, y):
+        behind = self.sums[y][x]
+        return behind is not None and behind < 0
+
+    # Surely so, as above.
+    def is_not_behind(self, x, y):
+        behind = self.sums[y][x]
+        return behind is not None and behind <= 0
+
 
 def least_sums(size, bounds):
     sums = [no_bounds_sums(size, x) for x in range(size)]

@@ -6,6 +6,8 @@ NAMES = (
     "box", "wire", "event", "press", "sent", "heard", "limit", "drop", "fits", "most", "sure", "way",
     "first", "bounds", "history", "late", "check", "needed", "would", "adds", "report", "wakes", "ruled", "told",
 )
+# There are at most 40 of these in a line.
+LONG = ("fits", "first", "needed", "would", "ruled")
 HUGE = 10 ** 18
 
 
@@ -29,6 +31,8 @@ def split(numbers):
 
 def answered(calls):
     """The answer of each call of the line, in order."""
+    # Longer lines are not handed in, so nothing is said of them.
+    assert 1 <= len(calls) <= 200 and sum(call[0] in LONG for call in calls) <= 40
     found = split(answers(flat(calls)))
     assert len(found) == len(calls)
     return found
@@ -39,6 +43,35 @@ def last_of(calls, more):
     return answered(list(calls) + list(more))[len(calls):]
 
 
-def apart(count):
+def asked(calls, *call):
+    """What one more call answers behind these."""
+    return last_of(calls, [call])[0]
+
+
+def first(*events):
+    return ("first", len(events), *events)
+
+
+def check(*times):
+    return ("check", len(times), *times)
+
+
+def adds(*numbers):
+    return ("adds", len(numbers), *numbers)
+
+
+def apart(count, kind="event"):
     """So many events, each of a box of its own: no bounds but those of evidence."""
-    return [("box", 1, 1, 0)] * count + [("event", k, 0) for k in range(count)]
+    return [("box", 1, 1, 0)] * count + [(kind, k, 0) for k in range(count)]
+
+
+def limits(*rows):
+    return [("limit", *row) for row in rows]
+
+
+def bounds_of(calls):
+    """All bounds behind these calls, each as from which event, to which, w."""
+    numbers = asked(calls, "bounds")
+    rows = [tuple(numbers[k:k + 3]) for k in range(1, len(numbers), 3)]
+    assert numbers[0] == len(rows)
+    return rows

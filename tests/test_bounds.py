@@ -2,9 +2,7 @@
 
 import unittest
 
-from firstpress.bounds import all_bounds
-from firstpress.record import PLAIN, Box, Event, Limit, Record
-from tests.lines import answered, apart, last_of
+from tests.lines import adds, answered, apart, asked, bounds_of, last_of
 
 
 def both(x, y):
@@ -51,12 +49,22 @@ class ClockBounds(unittest.TestCase):
         self.assertEqual(last_of(start, more)[::2], [[1, 1, 0], [1, 1, 2], [1, 1, 6]])
 
     def test_two_boxes_of_one_team_have_only_their_order(self):
-        record = Record()
-        record.boxes = [Box(2, 3, 1, 0), Box(2, 3, 1, 0), Box(1, 1, 0, 2)]
-        record.events = [Event(0, 50, PLAIN), Event(2, 0, PLAIN), Event(1, 7, PLAIN), Event(1, 9, PLAIN)]
-        record.evidence = [Limit(1, 2, 5, 6)]
-        rows = [(bound.start, bound.end, bound.weight) for bound in all_bounds(record)]
-        self.assertEqual(rows, [(2, 0, 0), (3, 0, 0), (2, 3, 9), (3, 2, -2), (1, 2, 6), (2, 1, -5)])
+        start = [("box", 2, 3, 1), ("box", 1, 1, 0), ("event", 0, 50), ("event", 1, 0), ("wakes", 0)]
+        start += [("event", 2, 7), ("event", 2, 9), ("limit", 1, 2, 5, 6)]
+        wanted = [(2, 0, 0), (3, 0, 0), (2, 3, 9), (3, 2, -2), (1, 2, 6), (2, 1, -5)]
+        self.assertEqual(bounds_of(start), wanted)
+        self.assertEqual(last_of(start, both(0, 3)), [[0], [0], [1, -2], [1, 2, 3, 0]])
+
+    def test_a_box_that_wakes_twice(self):
+        start = [("box", 2, 3, 0), ("event", 0, 5), ("wakes", 0), ("event", 1, 9), ("wakes", 1), ("event", 2, 1)]
+        self.assertEqual(bounds_of(start), [(1, 0, 0), (2, 0, 0), (2, 1, 0)])
+        start += [("event", 2, 3)]
+        wanted = [(1, 0, 0), (2, 0, 0), (3, 0, 0), (2, 1, 0), (3, 1, 0), (2, 3, 6), (3, 2, -4)]
+        self.assertEqual(bounds_of(start), wanted)
+
+    def test_a_box_that_wakes_before_its_first_event(self):
+        start = [("box", 2, 3, 0), ("wakes", 0), ("event", 1, 5), ("event", 1, 6)]
+        self.assertEqual(bounds_of(start), [(0, 1, 3), (1, 0, -2)])
 
 
 class EvidenceBounds(unittest.TestCase):
@@ -125,6 +133,49 @@ class EvidenceBounds(unittest.TestCase):
         start += [("event", 0, 10), ("event", 1, 10)]
         self.assertEqual(last_of(start, [("way", 2, 3)]), [[1, 3, 1, 4, 2]])
         self.assertEqual(last_of(start, [("most", 2, 3)]), [[1, 5]])
+
+
+class AllBounds(unittest.TestCase):
+    # Team 0 is boxes 0 and 2, with events 0, 1, 4; team 1 is box 1, with events 2, 3.
+    START = [
+        ("box", 2, 3, 1), ("box", 1, 4, 0), ("event", 0, 10), ("press", 0, 10), ("event", 1, 5), ("report", 1, 8),
+        ("wakes", 0), ("press", 2, 0), ("wire", 0, 1, 7, -1), ("wire", 1, 0, 2, 90), ("sent", 1), ("sent", 2),
+        ("heard", 0, 3), ("limit", 4, 2, -60, 50), ("heard", 1, 4),
+    ]
+    CLOCKS = [(0, 1, 3), (1, 0, 0), (4, 0, 0), (4, 1, 0), (2, 3, 12), (3, 2, -3)]
+
+    def test_nothing_told(self):
+        self.assertEqual(answered([("bounds",), ("box", 1, 1, 0), ("bounds",), ("event", 0, 3), ("bounds",)])[::2],
+                         [[0], [0], [0]])
+
+    def test_their_order_and_numbers(self):
+        wanted = self.CLOCKS + [(3, 1, -7), (4, 2, 50), (2, 4, 60), (2, 4, 90), (4, 2, -2)]
+        self.assertEqual(asked(self.START, "bounds"), [11] + [number for row in wanted for number in row])
+
+    def test_a_wire_told_anew(self):
+        wanted = self.CLOCKS + [(1, 3, 20), (3, 1, -6), (4, 2, 50), (2, 4, 60), (2, 4, 90), (4, 2, -2)]
+        self.assertEqual(bounds_of(self.START + [("wire", 2, 1, 6, 20)]), wanted)
+        wanted = self.CLOCKS + [(3, 1, -7), (4, 2, 50), (2, 4, 60), (4, 2, 0)]
+        self.assertEqual(bounds_of(self.START + [("wire", 1, 2, 0, -1)]), wanted)
+
+    def test_evidence_dropped(self):
+        heard, limit, last = [(3, 1, -7)], [(4, 2, 50), (2, 4, 60)], [(2, 4, 90), (4, 2, -2)]
+        self.assertEqual(bounds_of(self.START + [("drop", 0)]), self.CLOCKS + limit + last)
+        self.assertEqual(bounds_of(self.START + [("drop", 1)]), self.CLOCKS + heard + last)
+        self.assertEqual(bounds_of(self.START + [("drop", 2)]), self.CLOCKS + heard + limit)
+        again = [("drop", 0), ("heard", 0, 3)]
+        self.assertEqual(bounds_of(self.START + again), self.CLOCKS + limit + last + heard)
+
+    def test_while_there_is_no_history(self):
+        wanted = bounds_of(self.START) + [(0, 1, 9), (1, 0, -9)]
+        self.assertEqual(bounds_of(self.START + [("limit", 0, 1, 9, 9)]), wanted)
+        self.assertEqual(asked(self.START + [("limit", 0, 1, 9, 9)], "most", 0, 1), [-8])
+
+    def test_fits_way_and_adds_speak_of_these_numbers(self):
+        found = last_of(self.START, [("way", 2, 0), ("most", 2, 0), adds(4, 6, 1), ("way", 2, 4), adds(8)])
+        self.assertEqual(found, [[1, 3, 4, 6, 1], [1, 5], [1, 2, 0, 5], [1, 1, 8], [1, 2, 4, 60]])
+        found = last_of(self.START + [("limit", 0, 4, -5, -1)], [("fits",), adds(11, 2), adds(2, 11)])
+        self.assertEqual(found, [[0, 2, 11, 2], [1, 0, 0, -1], [1, 4, 4, -1]])
 
 
 class Rings(unittest.TestCase):

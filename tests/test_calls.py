@@ -1,53 +1,20 @@
-"""Each call: an ordinary answer, each refusal alone, which of two is answered, and that nothing changes by it."""
+"""The calls that tell, and fits to way: an ordinary answer, each refusal alone, which of two is answered."""
 
 import unittest
 
-from firstpress.record import PLAIN, Record
-from firstpress.telling import tell
 from tests.lines import answered, apart, last_of
+from tests.probing import (
+    ASKS, BOXES_FULL, BROKEN, EVENTS_FULL, EVIDENCE_FULL, MESSAGES_FULL, STATE, WOKEN, Refusing, probe,
+)
 
-# Boxes 0, 1 and 2; events 0 and 3 of box 0, 1 and 4 of box 1, 2 of box 2; wires from 0 to 1 and back.
-# Evidence: message 0 heard at 1, a limit, message 1 heard at 3.
-STATE = [
-    ("box", 2, 3, 1), ("box", 1, 4, 2), ("box", 5, 5, 0),
-    ("wire", 0, 1, 10, 40), ("wire", 1, 0, 3, -1),
-    ("event", 0, 100), ("press", 1, 50), ("event", 2, 7), ("press", 0, 200), ("event", 1, 60),
-    ("sent", 0), ("sent", 1), ("heard", 0, 1), ("limit", 2, 3, -5, 70), ("heard", 1, 3),
-]
-BOXES_FULL = [("box", 1, 1, 0)] * 8
-EVENTS_FULL = [("box", 1, 1, 0)] * 2 + [("event", 0, 5)] * 16
-MESSAGES_FULL = STATE + [("sent", 2)] * 10
-EVIDENCE_FULL = STATE + [("limit", 0, 1, 0, 500)] * 21
-# Two limits that can't both hold.
-BROKEN = [("limit", 0, 1, 900, 901), ("limit", 0, 1, -901, -900)]
+STAMPED = ("event", "press", "report")
 
 
-def pairs():
-    return [(x, y) for x in range(5) for y in range(5) if x != y]
-
-
-def probe():
-    """Calls whose answers differ if anything told so far differs."""
-    calls = [("fits",)]
-    for x, y in pairs():
-        calls += [("most", x, y), ("way", x, y)]
-    calls += [("sent", 0), ("heard", 0, 4), ("heard", 1, 0), ("heard", 0, 2), ("limit", 0, 2, -9, 9)]
-    calls += [("most", 0, 4), ("most", 1, 0), ("most", 0, 2), ("way", 0, 2), ("drop", 0), ("fits",)]
-    calls += [("event", 0, 200), ("event", 1, 60), ("event", 0, 199), ("box", 1, 1, 0)]
-    return calls
-
-
-class Refusals(unittest.TestCase):
-    def refused(self, prefix, call, refusal):
-        with self.subTest(call=call, refusal=refusal):
-            found = last_of(prefix, [call] + probe())
-            self.assertEqual(found[0], [refusal])
-            self.assertEqual(found[1:], last_of(prefix, probe()), "something changed by a refusal")
-
+class Refusals(Refusing, unittest.TestCase):
     def test_probe_sees_changes(self):
         changes = [
             ("box", 1, 1, 0), ("wire", 0, 1, 10, 41), ("wire", 0, 2, 0, 0), ("event", 0, 200), ("press", 1, 61),
-            ("sent", 0), ("heard", 1, 0), ("limit", 0, 1, 0, 0), ("drop", 2),
+            ("sent", 0), ("heard", 1, 0), ("limit", 0, 1, 0, 0), ("drop", 2), ("report", 0, 200), ("wakes", 2),
         ]
         for change in changes:
             with self.subTest(change=change):
@@ -80,8 +47,8 @@ class Refusals(unittest.TestCase):
         self.refused(STATE, ("wire", 3, -1, 5, 4), -1)
         self.refused(STATE, ("wire", 1, 1, -1, 4), -1)
 
-    def test_event_and_press(self):
-        for name in ("event", "press"):
+    def test_event_press_and_report(self):
+        for name in STAMPED:
             self.assertEqual(last_of(STATE, [(name, 0, 200), (name, 2, 8), (name, 1, 10 ** 9)]), [[5], [6], [7]])
             self.refused(STATE, (name, 0, 199), -3)
             self.refused(STATE, (name, 1, 0), -3)
@@ -91,8 +58,8 @@ class Refusals(unittest.TestCase):
             self.refused(EVENTS_FULL, (name, 0, 5), -7)
             self.refused(EVENTS_FULL, (name, 1, 0), -7)
 
-    def test_event_and_press_order(self):
-        for name in ("event", "press"):
+    def test_event_press_and_report_order(self):
+        for name in STAMPED:
             self.refused(EVENTS_FULL, (name, 0, 4), -3)
             self.refused(EVENTS_FULL, (name, 2, 4), -4)
             self.refused(STATE, (name, 3, -1), -1)
@@ -105,20 +72,44 @@ class Refusals(unittest.TestCase):
         self.assertEqual(answered(calls)[2:], [[0], [1], [2], [-3]])
 
     def test_a_woken_box_is_refused_first(self):
-        record = Record()
-        tell(record, 0, [1, 1, 0])
-        tell(record, 2, [0, 5])
-        record.boxes[0].woken = True
-        for number in (2, 3):
-            self.assertEqual(tell(record, number, [0, 5]), [-11])
-            self.assertEqual(tell(record, number, [0, 4]), [-11])
-        self.assertEqual([(event.box, event.stamp, event.kind) for event in record.events], [(0, 5, PLAIN)])
+        full = WOKEN + [("event", 0, 200)] * 10
+        for name in STAMPED:
+            self.refused(WOKEN, (name, 2, 7), -11)
+            self.refused(WOKEN, (name, 2, 6), -11)
+            self.refused(full, (name, 2, 7), -11)
+            self.refused(full, (name, 3, 4), -7)
+            self.refused(WOKEN, (name, 4, 7), -4)
+            self.refused(WOKEN, (name, 2, -1), -1)
+            # The box that goes on has a clock of its own: stamps may begin anew.
+            self.assertEqual(last_of(STATE, [("wakes", 2), (name, 3, 0), (name, 3, 0)]), [[3], [5], [6]])
+            self.refused(WOKEN, (name, 3, 3), -3)
 
-    def test_presses_are_kept_as_such(self):
-        record = Record()
-        for number, given in ((0, [1, 1, 0]), (2, [0, 5]), (3, [0, 6])):
-            tell(record, number, given)
-        self.assertEqual([event.kind for event in record.events], [0, 1])
+    def test_kinds_of_events_are_kept(self):
+        calls = [("box", 1, 1, 0), ("event", 0, 5), ("press", 0, 6), ("report", 0, 7), ("told",)]
+        self.assertEqual(answered(calls)[-1], [1, 1, 1, 0, 0, 3, 0, 5, 0, 0, 6, 1, 0, 7, 2])
+
+    def test_wakes(self):
+        self.assertEqual(last_of(STATE, [("wakes", 0), ("wakes", 3), ("wakes", 1)]), [[3], [4], [5]])
+        self.refused(WOKEN, ("wakes", 2), -11)
+        self.refused(WOKEN, ("wakes", 4), -4)
+        self.refused(WOKEN, ("wakes", 8), -1)
+        self.refused(WOKEN, ("wakes", -1), -1)
+        self.refused(BOXES_FULL, ("wakes", 0), -7)
+        self.refused(WOKEN + [("box", 1, 1, 0)] * 4, ("wakes", 3), -7)
+        self.refused(WOKEN + [("box", 1, 1, 0)] * 4, ("wakes", 2), -11)
+        self.refused(BOXES_FULL, ("wakes", 8), -1)
+
+    def test_boxes_of_one_team(self):
+        # Team 2 is boxes 2 and 3: a wire told of either is the same, and there is none within.
+        self.refused(WOKEN, ("wire", 2, 3, 0, 0), -5)
+        self.refused(WOKEN, ("wire", 3, 2, 5, 4), -5)
+        self.refused(WOKEN, ("wire", 2, 2, 0, 0), -5)
+        more = [("wire", 3, 1, 2, 9), ("sent", 2), ("sent", 5)]
+        self.assertEqual(last_of(WOKEN + more, [("heard", 2, 1), ("heard", 3, 1)]), [[3], [4]])
+        self.refused(WOKEN + more, ("heard", 2, 5), -5)
+        self.refused(WOKEN + more, ("heard", 3, 2), -5)
+        self.refused(WOKEN + more, ("heard", 2, 0), -6)
+        self.refused(WOKEN + more, ("heard", 3, 0), -6)
 
     def test_sent(self):
         self.assertEqual(last_of(STATE, [("sent", 0), ("sent", 0), ("sent", 4)]), [[2], [3], [4]])
@@ -189,9 +180,12 @@ class Refusals(unittest.TestCase):
             self.refused(STATE + BROKEN, (name, 2, 2), -8)
 
     def test_asking_changes_nothing(self):
-        asks = [("fits",), ("most", 0, 1), ("sure", 0, 1), ("way", 0, 1)]
-        for prefix in (STATE, STATE + BROKEN):
-            self.assertEqual(last_of(prefix, asks + probe())[4:], last_of(prefix, probe()))
+        for prefix in (STATE, STATE + BROKEN, WOKEN, []):
+            for ask in ASKS:
+                with self.subTest(ask=ask):
+                    self.assertEqual(last_of(prefix, [ask] + probe())[1:], last_of(prefix, probe()))
+            found = last_of(prefix, ASKS + ASKS)
+            self.assertEqual(found[len(ASKS):], found[:len(ASKS)])
 
     def test_there_is_a_history_again_when_what_breaks_it_is_dropped(self):
         calls = apart(2) + BROKEN + [("most", 0, 1), ("drop", 0), ("fits",), ("most", 0, 1)]

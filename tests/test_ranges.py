@@ -9,6 +9,13 @@ NEARLY = (
     [("box", 1, 1, 0)] * 8 + [("event", k % 8, 0) for k in range(16)] + [("wire", 0, 7, 0, -1), ("wire", 7, 0, 0, -1)]
     + [("sent", 0)] * 11 + [("limit", 0, 1, -9, 9)] * 23
 )
+# Each event is surely before those told behind it.
+RISING = [("box", 1, 1, 0)] + [("event", 0, k) for k in range(16)]
+# Messages 0 to 10 are sent by box 0, message 11 by box 7; each may be heard by all the others.
+HEARABLE = (
+    [("box", 1, 1, 0)] * 8 + [("wire", i, j, 0, -1) for i in (0, 7) for j in range(8) if i != j]
+    + [("press", 0, 0), ("event", 7, 0)] + [("sent", 0)] * 11 + [("sent", 1)]
+)
 BOX, EVENT, MESSAGE, EVIDENCE = (0, 7), (0, 15), (0, 11), (0, 23)
 STAMP, SPAN = (0, 10 ** 9), (-10 ** 15, 10 ** 15)
 
@@ -27,9 +34,17 @@ EDGES = [
     (NEARLY, ("most", 2, 3), [EVENT, EVENT]),
     (NEARLY, ("sure", 2, 3), [EVENT, EVENT]),
     (NEARLY, ("way", 2, 3), [EVENT, EVENT]),
+    (NEARLY, ("late", 0), [EVENT]),
+    (RISING, ("needed", 0, 15), [(0, 14), (1, 15)]),
+    (HEARABLE, ("would", 0, 1, 0), [MESSAGE, (1, 7), STAMP]),
+    (HEARABLE, ("would", 11, 0, 0), [None, (0, 6), STAMP]),
+    ([("box", 1, 1, 0)] * 8, ("report", 0, 0), [BOX, STAMP]),
+    ([("box", 1, 1, 0)] * 7, ("wakes", 0), [(0, 6)]),
 ]
-# The message above is heard at events of another team alone, but the range is that of all events.
-BEYOND = {("heard", 2): (0, 15)}
+# Not all numbers of a range are taken there, as they don't all go together; what is beyond it is refused all the same.
+BEYOND = {
+    ("heard", 2): EVENT, ("needed", 1): EVENT, ("needed", 2): EVENT, ("would", 2): BOX, ("wakes", 1): BOX,
+}
 
 
 def changed(call, place, number):
@@ -62,7 +77,7 @@ class Ranges(unittest.TestCase):
     def test_how_many_there_may_be(self):
         self.assertEqual(answered([("box", 1, 1, 0)] * 9), [[k] for k in range(8)] + [[-7]])
         start = [("box", 1, 1, 0)] * 2
-        for name in ("event", "press"):
+        for name in ("event", "press", "report"):
             events = [(name, k % 2, 3) for k in range(17)]
             self.assertEqual(last_of(start, events), [[k] for k in range(16)] + [[-7]])
         self.assertEqual(last_of(apart(1), [("sent", 0)] * 13), [[k] for k in range(12)] + [[-7]])
